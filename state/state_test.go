@@ -100,8 +100,8 @@ func TestFail(t *testing.T) {
 			if why > 12 && why != 255 && len(w.done) > 3 {
 				return
 			}
-			rest, _ := w.x.W.Hold().Rest(w.x.W.Hold().Last())
-			all, _ := w.x.W.Hold().Rest(was.way.first - 1&127)
+			ahead := (was.way.first + 127) % 128
+			all, _ := w.x.W.Hold().Rest(ahead)
 			w.do(fmt.Sprint("fail:", why))
 			want, told := failed(was), []api.Told{{Kind: api.OutOfService, Why: byte(why)}}
 			if was.state == "out" {
@@ -113,10 +113,9 @@ func TestFail(t *testing.T) {
 			if got := w.x.Told(); toldText(got) != toldText(told) || len(got) != len(told) {
 				t.Fatalf("%s: told %v, want %v", w.what(), got, told)
 			}
-			restNow, _ := w.x.W.Hold().Rest(w.x.W.Hold().Last())
-			allNow, _ := w.x.W.Hold().Rest(was.way.first - 1&127)
-			if !slices.EqualFunc(rest, restNow, bytes.Equal) || !slices.EqualFunc(all, allNow, bytes.Equal) {
-				t.Fatalf("%s: what waits is another thing", w.what())
+			allNow, _ := w.x.W.Hold().Rest(ahead)
+			if !slices.EqualFunc(all, allNow, bytes.Equal) || len(all) != was.way.sent+was.way.next {
+				t.Fatalf("%s: what waits is another thing: %q, want %q", w.what(), allNow, all)
 			}
 		})
 	}
